@@ -1,0 +1,1 @@
+"""Shelfwork: deeds, and the shelves they may touch."""
