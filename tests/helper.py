@@ -5,6 +5,10 @@ import random
 ONE = ("number", 1)
 TWO = ("number", 2)
 
+# Every mark of a kind without handed deeds, rising.
+ALL_MARKS = [("ask",), ("read", "a"), ("read", "b"), ("read", "c"), ("read", "d"), ("say",),
+             ("write", "a"), ("write", "b"), ("write", "c"), ("write", "d")]
+
 # Two rules for samples: one without names and handed deeds, one with one of each.
 RULES = (
     ((), (), ("number", 5)),
@@ -50,6 +54,42 @@ def comb(size):
     for _ in range((size - 1) // 2):
         deed = ("add", ONE, deed)
     return deed
+
+
+# ---- deeds in fewer signs
+
+
+def number(worth):
+    return ("number", worth)
+
+
+def name(text):
+    return ("name", text)
+
+
+def read(shelf):
+    return ("read", shelf)
+
+
+def write(shelf, worth):
+    return ("write", shelf, number(worth))
+
+
+def say(worth):
+    return ("say", number(worth))
+
+
+def row(*deeds):
+    """The deeds one behind the other, as one deed."""
+    whole = deeds[-1]
+    for deed in reversed(deeds[:-1]):
+        whole = ("then", deed, whole)
+    return whole
+
+
+def put(shelf, deed, worth):
+    """Adds a worth to what is on a shelf, behind a deed."""
+    return ("then", deed, ("write", shelf, ("add", read(shelf), number(worth))))
 
 
 # ---- a second way to run deeds: generators that hand out each touch, and are sent its worth
@@ -144,6 +184,28 @@ class PlainRun:
         return (worths, tuple(self.store[shelf] for shelf in "abcd"), self.said, self.asks)
 
 
+# ---- a second way to tell marks: from the inmost parts out, as sets, each do's mark put in for at its call
+
+
+def plain_marks(rules, deed, bodies=None):
+    """The marks of a deed; bodies may tell the marks of the rules' bodies otherwise than they are."""
+    word = deed[0]
+    if word == "call":
+        names, handed, body = rules[deed[1]]
+        given = dict(zip(handed, deed[3]))
+        marks = set()
+        for part in deed[2]:
+            marks |= plain_marks(rules, part, bodies)
+        for mark in plain_marks(rules, body) if bodies is None else bodies[deed[1]]:
+            marks |= plain_marks(rules, given[mark[1]], bodies) if mark[0] == "do" else {mark}
+        return marks
+    parts = [plain_marks(rules, part, bodies) for part in deed if isinstance(part, tuple)]
+    if word == "own":
+        parts[1] -= {("read", deed[1]), ("write", deed[1])}
+    own = {"read": [deed[:2]], "write": [deed[:2]], "do": [deed[:2]], "say": [deed[:1]], "ask": [deed[:1]]}
+    return set(own.get(word, [])).union(*parts)
+
+
 # ---- chance deeds
 
 
@@ -209,3 +271,33 @@ class Chance:
 
     def turns(self, count):
         return [self.chance.randrange(count) for _ in range(self.chance.randrange(30))]
+
+    def some(self, things):
+        return self.chance.sample(things, self.chance.randrange(len(things) + 1))
+
+    def kind(self, handed):
+        return sorted(self.some(ALL_MARKS + [("do", each) for each in handed]))
+
+    def kinds(self, rules):
+        return [self.kind(rule[1]) for rule in rules]
+
+    def deeds_apart(self, rules, count, may_go):
+        """Up to so many deeds, each of which may go with each other one."""
+        deeds = []
+        for _ in range(60):
+            deed = self.deed(rules, (), self.chance.choice([1, 2, 2, 3]))
+            if len(deeds) < count and deed[0] != "number" and all(may_go(rules, deed, other) for other in deeds):
+                deeds.append(deed)
+        return deeds
+
+    def shuffled(self, things):
+        return self.chance.sample(things, len(things))
+
+    def thing(self, depth):
+        """Any thing: mostly marks and parts of such, and lists and tuples of them."""
+        plain = [0, 1, -3, True, False, None, "", "a", "b", "p", "say", "ask", "read", "write", "do", "f", ("say",),
+                 ("ask",), ("read", "a"), ("write", "d"), ("do", "f"), ["read", "a"], ("read", "p"), [], ()]
+        if depth == 0 or self.chance.random() < 0.3:
+            return self.chance.choice(plain)
+        parts = [self.thing(depth - 1) for _ in range(self.chance.randrange(4))]
+        return self.chance.choice([list, tuple])(parts)

@@ -1,8 +1,8 @@
 import inspect
 import unittest
 
-from shelfwork import deeds, running
-from helper import FIFTEEN, ONE, RULES
+from shelfwork import beside, deeds, kinds, running, touches
+from helper import ALL_MARKS, FIFTEEN, ONE, RULES, read, say, write
 
 FUNCTIONS = (
     (deeds, "is_rules", 1),
@@ -12,7 +12,40 @@ FUNCTIONS = (
     (running, "trace", 4),
     (running, "run_all", 4),
     (running, "run_by", 5),
+    (touches, "touches", 2),
+    (touches, "rule_touches", 2),
+    (touches, "reads_of", 2),
+    (touches, "writes_of", 2),
+    (touches, "is_quiet", 2),
+    (touches, "untouched", 2),
+    (kinds, "is_kind", 2),
+    (kinds, "is_less", 2),
+    (kinds, "fits", 3),
+    (kinds, "joined", 2),
+    (kinds, "both_of", 2),
+    (kinds, "too_much", 3),
+    (kinds, "least_kinds", 1),
+    (kinds, "first_fault", 2),
+    (kinds, "told_touches", 3),
+    (beside, "may_go", 3),
+    (beside, "all_may_go", 2),
+    (beside, "is_order", 3),
+    (beside, "order_matters", 5),
+    (beside, "goes_twice", 2),
+    (beside, "clash", 3),
+    (beside, "clashing", 2),
+    (beside, "layers", 2),
+    (beside, "run_in", 5),
 )
+
+STORE = (1, 2, 3, 4)
+
+
+def row_of_all():
+    deed = ("ask",)
+    for shelf in "abcd":
+        deed = ("then", ("say", ("write", shelf, read(shelf))), deed)
+    return deed
 
 
 class Interface(unittest.TestCase):
@@ -29,6 +62,45 @@ class Interface(unittest.TestCase):
             self.assertIs(type(deeds.is_rules(thing)), bool, thing)
         for thing in tuple(FIFTEEN.values()) + ((), None, [], "text", 0):
             self.assertIs(type(deeds.is_deed(RULES, thing)), bool, thing)
+
+    def test_truths_of_touches_kinds_and_deeds_side_by_side(self):
+        for deed in (ONE, read("a"), write("a", 1), say(1), ("ask",)):
+            self.assertIs(type(touches.is_quiet((), deed)), bool)
+            self.assertIs(type(beside.goes_twice((), deed)), bool)
+            for kind in ([], [("say",)], ALL_MARKS):
+                self.assertIs(type(kinds.fits((), deed, kind)), bool)
+            for other in (ONE, write("a", 2), say(1)):
+                self.assertIs(type(beside.may_go((), deed, other)), bool)
+                self.assertIs(type(beside.all_may_go((), [deed, other])), bool)
+                self.assertIs(type(beside.order_matters((), deed, other, STORE, [])), bool)
+                for order in ([], [0, 1], [1, 0], [0, 0]):
+                    self.assertIs(type(beside.is_order((), [deed, other], order)), bool)
+        for thing in ([], ALL_MARKS, None, (), "text", [None]):
+            self.assertIs(type(kinds.is_kind(thing, ("f",))), bool)
+        for one, other in (([], []), (ALL_MARKS, []), ([], ALL_MARKS)):
+            self.assertIs(type(kinds.is_less(one, other)), bool)
+
+    def test_lists_of_touches_kinds_and_deeds_side_by_side(self):
+        handed = RULES[1][1]
+        told_kinds = [[], [("do", each) for each in handed]]
+        for deed in (ONE, row_of_all()):
+            told = [touches.touches(RULES, deed), touches.reads_of(RULES, deed), touches.writes_of(RULES, deed),
+                    touches.untouched(RULES, deed), kinds.too_much(RULES, deed, []),
+                    kinds.told_touches(RULES, told_kinds, deed), beside.clash(RULES, deed, deed),
+                    beside.clashing(RULES, [deed, deed]), beside.layers(RULES, [deed, deed])]
+            self.assertEqual([type(each) for each in told], [list] * 9)
+            self.assertTrue(all(type(mark) is tuple for mark in told[0] + told[4] + told[5] + told[7]))
+            self.assertTrue(all(type(each) is str for each in told[1] + told[2] + told[3] + told[6]))
+            self.assertTrue(all(type(each) is list for each in told[8]))
+        for told in (touches.rule_touches(RULES, 0), kinds.joined([], []), kinds.both_of([], []),
+                     kinds.least_kinds(RULES), kinds.least_kinds(RULES)[0]):
+            self.assertIs(type(told), list)
+        told = beside.run_in((), [ONE, say(1)], [1, 0], STORE, [])
+        self.assertIs(type(told), tuple)
+        self.assertEqual([type(part) for part in told], [list, tuple, list, int])
+        told = kinds.first_fault(RULES, [[], []])
+        self.assertEqual([type(told), type(told[0]), type(told[1])], [tuple, int, list])
+        self.assertIsNone(kinds.first_fault(RULES, told_kinds))
 
     def test_kinds_of_what_is_told(self):
         self.assertIs(type(deeds.size_of(ONE)), int)

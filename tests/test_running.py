@@ -4,42 +4,9 @@ import unittest
 
 from shelfwork.deeds import is_deed, is_rules, size_of
 from shelfwork.running import run, run_all, run_by, trace
-from helper import FIFTEEN, ONE, RULES, Chance, PlainRun, chain
+from helper import FIFTEEN, ONE, RULES, Chance, PlainRun, chain, name, number, put, read, row, say, write
 
 STORE = (10, 20, 30, 40)
-
-
-def number(worth):
-    return ("number", worth)
-
-
-def name(text):
-    return ("name", text)
-
-
-def read(shelf):
-    return ("read", shelf)
-
-
-def write(shelf, worth):
-    return ("write", shelf, number(worth))
-
-
-def say(worth):
-    return ("say", number(worth))
-
-
-def row(*deeds):
-    """The deeds one behind the other, as one deed."""
-    whole = deeds[-1]
-    for deed in reversed(deeds[:-1]):
-        whole = ("then", deed, whole)
-    return whole
-
-
-def put(shelf, deed, worth):
-    """Adds a worth to what is on a shelf, behind a deed."""
-    return ("then", deed, ("write", shelf, ("add", read(shelf), number(worth))))
 
 
 class Running(unittest.TestCase):
