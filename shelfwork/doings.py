@@ -5,6 +5,7 @@ and deeds may be as deep as they like.
 """
 
 from shelfwork.forms import parts_of
+from shelfwork.heaps import taken_off
 from shelfwork.names import SHELVES
 
 MODULUS = 1009
@@ -146,20 +147,19 @@ class Doing:
     def take_step(self, parts_done, deed, known):
         parts = parts_run_first(deed)
         if parts_done or len(parts) == 0:
-            WAYS[deed[0]](self, deed, known, self.last_worths(len(parts)))
+            WAYS[deed[0]](self, deed, known, taken_off(self.worths, len(parts)))
         else:
             self.steps.append((True, deed, known))
             self.steps.extend([(False, part, known) for part in reversed(parts)])
-
-    def last_worths(self, count):
-        backward = [self.worths.pop() for turn in range(count)]
-        return list(reversed(backward))
 
     def do_touch(self, room):
         touch = room.do(self.touch_ahead)
         self.touch_ahead = None
         self.bring(touch[-1])
         return touch
+
+    def is_done(self):
+        return len(self.steps) == 0 and self.touch_ahead is None
 
     def came_to(self):
         return self.worths[-1]

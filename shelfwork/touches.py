@@ -18,14 +18,14 @@ def marks_of_itself(bodies, deed):
     return []
 
 
-def handed_that_are_done(rules, bodies, call):
-    names = rules[call[1]][1]
-    return tuple([part for name, part in zip(names, call[3]) if ("do", name) in bodies[call[1]]])
+def handed_that_are_done(rules, bodies, number, handed):
+    names = rules[number][1]
+    return tuple([part for name, part in zip(names, handed) if ("do", name) in bodies[number]])
 
 
 def parts_that_count(rules, bodies, deed):
     if deed[0] == "call":
-        return deed[2] + handed_that_are_done(rules, bodies, deed)
+        return deed[2] + handed_that_are_done(rules, bodies, deed[1], deed[3])
     return parts_of(deed)
 
 

@@ -24,6 +24,8 @@ NOWHERE = re.compile(r"\b(type|typing|typing_extensions|enum|Enum|IntEnum|StrEnu
                      r"ABCMeta|namedtuple|NamedTuple|TypedDict|TYPE_CHECKING|abstractmethod)\b|"
                      r"dataclass|overload|contextmanager")
 
+TAKES_WALKS = ("list", "tuple", "dict", "sorted", "sum", "any", "all", "enumerate", "zip", "min", "max", "join")
+
 METHODS_OF_CLASSES = ("__init__", "__eq__", "__repr__", "__str__", "__len__")
 
 STATEMENTS = (ast.Assign, ast.AugAssign, ast.If, ast.While, ast.For, ast.Return, ast.Break, ast.Continue, ast.Pass,
@@ -52,6 +54,20 @@ def nodes(kind):
         for node in ast.walk(tree_of(name)):
             if isinstance(node, kind):
                 yield name, node
+
+
+def called_name(node):
+    if not isinstance(node, ast.Call):
+        return None
+    return getattr(node.func, "id", None) or getattr(node.func, "attr", None)
+
+
+def calls_with_what_is_above():
+    for name in files():
+        for above in ast.walk(tree_of(name)):
+            for node in ast.iter_child_nodes(above):
+                if isinstance(node, ast.Call):
+                    yield name, node, above
 
 
 def bound_names(tree):
@@ -173,6 +189,21 @@ class Form(unittest.TestCase):
             self.assertIn(node.attr, METHODS | own_methods | own_values, (name, node.lineno))
         for kind in (str, int, list, dict, set, bytes):
             self.assertEqual([value for value in own_values if value in dir(kind)], [])
+
+    def test_walked_at_once(self):
+        for name, node, above in calls_with_what_is_above():
+            called = called_name(node)
+            if called in ("zip", "enumerate", "reversed", "range", "items", "keys", "values"):
+                walked = isinstance(above, (ast.For, ast.comprehension)) and above.iter is node
+                first = isinstance(above, ast.Call) and above.args[:1] == [node] and called_name(above) in TAKES_WALKS
+                self.assertTrue(walked or first, (name, node.lineno))
+
+    def test_sets_are_not_kept(self):
+        for name, node, above in calls_with_what_is_above():
+            if called_name(node) == "set":
+                self.assertIsInstance(above, (ast.Call, ast.BinOp, ast.Compare), (name, node.lineno))
+                if isinstance(above, ast.Call):
+                    self.assertIn(called_name(above), ("sorted", "len"), (name, node.lineno))
 
     def test_is_stands_beside_none_true_and_false(self):
         for name, node in nodes(ast.Compare):

@@ -1,7 +1,7 @@
 import inspect
 import unittest
 
-from shelfwork import beside, deeds, kinds, running, touches
+from shelfwork import beside, deeds, halls, kinds, putting, running, texts, tidying, touches
 from helper import ALL_MARKS, FIFTEEN, ONE, RULES, read, say, write
 
 FUNCTIONS = (
@@ -36,7 +36,15 @@ FUNCTIONS = (
     (beside, "clashing", 2),
     (beside, "layers", 2),
     (beside, "run_in", 5),
+    (putting, "put_in", 2),
+    (tidying, "tidied", 2),
+    (halls, "Hall", 3),
+    (texts, "written", 1),
+    (texts, "read", 2),
 )
+
+# The methods of a hall, and how many arguments they have behind self.
+METHODS = {"begin": 1, "going": 0, "waits_for": 1, "turn": 1, "worth": 1, "finish": 0, "store": 0, "said": 0}
 
 STORE = (1, 2, 3, 4)
 
@@ -53,6 +61,15 @@ class Interface(unittest.TestCase):
         for module, name, count in FUNCTIONS:
             parameters = inspect.signature(getattr(module, name)).parameters.values()
             self.assertEqual(len(parameters), count, name)
+            for parameter in parameters:
+                self.assertIs(parameter.default, inspect.Parameter.empty, name)
+                self.assertIs(parameter.kind, inspect.Parameter.POSITIONAL_OR_KEYWORD, name)
+
+    def test_each_method_of_a_hall_has_its_arguments(self):
+        self.assertIs(type(halls.Hall), type)
+        for name, count in METHODS.items():
+            parameters = inspect.signature(getattr(halls.Hall, name)).parameters.values()
+            self.assertEqual(len(parameters), count + 1, name)
             for parameter in parameters:
                 self.assertIs(parameter.default, inspect.Parameter.empty, name)
                 self.assertIs(parameter.kind, inspect.Parameter.POSITIONAL_OR_KEYWORD, name)
@@ -101,6 +118,25 @@ class Interface(unittest.TestCase):
         told = kinds.first_fault(RULES, [[], []])
         self.assertEqual([type(told), type(told[0]), type(told[1])], [tuple, int, list])
         self.assertIsNone(kinds.first_fault(RULES, told_kinds))
+
+    def test_deeds_and_texts_that_are_told(self):
+        for deed in (ONE, row_of_all(), ("call", 1, (("then", ONE, ONE),), (say(1),))):
+            for told in (putting.put_in(RULES, deed), tidying.tidied(RULES, deed),
+                         texts.read(RULES, texts.written(deed))):
+                self.assertIs(type(told), tuple)
+                self.assertTrue(deeds.is_deed(RULES, told))
+            self.assertIs(type(texts.written(deed)), str)
+
+    def test_kinds_of_what_a_hall_tells(self):
+        hall = halls.Hall(RULES, STORE, [5])
+        self.assertEqual([hall.begin(deed) for deed in (ONE, read("a"), say(1), ("ask",))], [0, 1, 2, 3])
+        self.assertEqual([type(hall.begin(ONE)), type(hall.worth(0))], [int, int])
+        for touch in (hall.turn(1), hall.turn(2), hall.turn(3)):
+            self.assertIs(type(touch), tuple)
+            self.assertEqual([type(touch[0]), type(touch[-1])], [str, int])
+        told = [hall.going(), hall.waits_for(ONE), hall.finish(), hall.said(), hall.store()]
+        self.assertEqual([type(each) for each in told], [list, list, list, list, tuple])
+        self.assertTrue(all(type(worth) is int for worth in told[2] + told[3]))
 
     def test_kinds_of_what_is_told(self):
         self.assertIs(type(deeds.size_of(ONE)), int)
